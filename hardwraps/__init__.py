@@ -1,0 +1,1 @@
+"""Hardwraps: lines that are wrapped again and again."""

@@ -1,0 +1,76 @@
+"""The form of the package's files, as far as it can be read off them."""
+
+import ast
+import importlib
+import inspect
+import pathlib
+import unittest
+
+PACKAGE = pathlib.Path(__file__).resolve().parent.parent / 'hardwraps'
+
+# The names and parameters of the interface, for the modules that have landed.
+INTERFACE = {
+    'wrapping': {
+        'is_widths': ['value'],
+        'column': ['widths', 'position'],
+        'columns': ['widths', 'length'],
+        'is_break': ['widths', 'position'],
+        'last_break': ['widths', 'position'],
+        'effective': ['widths'],
+    },
+    'counting': {
+        'piece_sizes': ['widths', 'length'],
+        'count_pieces': ['widths', 'length'],
+        'nth_break': ['widths', 'index'],
+        'piece_lengths': ['widths'],
+        'count_of_length': ['widths', 'length', 'size'],
+    },
+}
+
+
+def trees():
+    return {path: ast.parse(path.read_text()) for path in sorted(PACKAGE.rglob('*.py'))}
+
+
+class FormTest(unittest.TestCase):
+
+    def test_the_folder_contains_only_python_files(self):
+        for path in PACKAGE.iterdir():
+            if path.name != '__pycache__':
+                self.assertRegex(path.name, r'\A[a-z_]+\.py\Z')
+
+    def test_sizes_and_characters(self):
+        for path in PACKAGE.rglob('*.py'):
+            lines = path.read_text(encoding='utf-8').split('\n')
+            self.assertLessEqual(len(lines), 399, path)
+            for line in lines:
+                self.assertLessEqual(len(line), 120, path)
+                self.assertRegex(line, r'\A[ -~]*\Z', path)
+
+    def test_functions_are_short(self):
+        for path, tree in trees().items():
+            for node in ast.walk(tree):
+                if isinstance(node, ast.FunctionDef):
+                    self.assertLessEqual(node.end_lineno - node.lineno + 1, 40, (path, node.name))
+
+    def test_imports_name_the_file_that_defines_the_name(self):
+        for path, tree in trees().items():
+            for node in ast.walk(tree):
+                self.assertNotIsInstance(node, ast.Import, path)
+                if isinstance(node, ast.ImportFrom):
+                    self.assertRegex(node.module, r'\Ahardwraps\.[a-z_]+\Z', path)
+                    source = trees()[PACKAGE / (node.module.split('.')[1] + '.py')]
+                    defined = {item.name for item in source.body if hasattr(item, 'name')}
+                    for item in source.body:
+                        if isinstance(item, ast.Assign):
+                            defined.add(item.targets[0].id)
+                    for alias in node.names:
+                        self.assertIn(alias.name, defined, path)
+
+    def test_interface(self):
+        for name, functions in INTERFACE.items():
+            module = importlib.import_module('hardwraps.' + name)
+            for function, parameters in functions.items():
+                found = getattr(module, function)
+                self.assertEqual(found.__module__, module.__name__)
+                self.assertEqual(list(inspect.signature(found).parameters), parameters)
