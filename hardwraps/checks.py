@@ -23,3 +23,9 @@ def check_length(value):
     """Raise InvalidLength if the value is not a length."""
     if not is_integer_in(value, 0, GREATEST):
         raise InvalidLength("a length is an integer from 0 to 10 ** 30")
+
+
+def check_positive_length(value):
+    """Raise InvalidLength if the value is not a length, or is 0."""
+    if not is_integer_in(value, 1, GREATEST):
+        raise InvalidLength("this length is an integer from 1 to 10 ** 30")

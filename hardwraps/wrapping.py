@@ -28,6 +28,20 @@ def remainder(widths, position):
     return left
 
 
+def first_columns(widths, length):
+    """Return the list of the first `length` columns without a check of the arguments."""
+    found = []
+    for width in reversed([length] + widths):
+        # The later widths break each full piece of this width in the same way.
+        found = _repeated(found, width) if found else list(range(width))
+    return found
+
+
+def _repeated(items, length):
+    times = length // len(items) + 1
+    return (items * times)[:length]
+
+
 def column(widths, position):
     """Return the column of a position."""
     check_widths(widths)
@@ -40,7 +54,7 @@ def columns(widths, length):
     check_widths(widths)
     if not is_integer_in(length, 0, MOST_COLUMNS):
         raise InvalidLength("columns are listed for a length from 0 to 1000")
-    return [remainder(widths, position) for position in range(length)]
+    return first_columns(widths, length)
 
 
 def is_break(widths, position):

@@ -1,11 +1,16 @@
 """The form of the package's files, as far as it can be read off them."""
 
 import ast
+import builtins
 import importlib
 import inspect
 import pathlib
 import unittest
 
+BUILTINS = [
+    'ValueError', 'all', 'bool', 'enumerate', 'int', 'isinstance', 'len', 'list', 'max', 'min', 'range',
+    'reversed', 'sorted', 'sum', 'zip',
+]
 PACKAGE = pathlib.Path(__file__).resolve().parent.parent / 'hardwraps'
 
 # The names and parameters of the interface, for the modules that have landed.
@@ -24,6 +29,33 @@ INTERFACE = {
         'nth_break': ['widths', 'index'],
         'piece_lengths': ['widths'],
         'count_of_length': ['widths', 'length', 'size'],
+    },
+    'periods': {
+        'overlap': ['widths', 'shift'],
+        'least_period': ['widths'],
+        'has_period': ['widths', 'length', 'period'],
+        'least_period_to': ['widths', 'length'],
+    },
+    'forms': {
+        'normal_form': ['widths'],
+        'are_equal': ['widths', 'other'],
+        'first_difference': ['widths', 'other'],
+        'descent': ['widths', 'length'],
+        'are_equal_to': ['widths', 'other', 'length'],
+    },
+    'changes': {
+        'redundant': ['widths'],
+        'can_exchange': ['widths', 'index'],
+        'harmless_widths': ['widths', 'index', 'limit'],
+        'commute': ['first', 'second'],
+    },
+    'reading': {
+        'first_obstacle': ['pieces'],
+        'shortest_widths': ['pieces'],
+        'count_lists': ['pieces'],
+        'nth_list': ['pieces', 'index'],
+        'list_index': ['pieces', 'widths'],
+        'shortest_for_lines': ['lines'],
     },
 }
 
@@ -66,6 +98,34 @@ class FormTest(unittest.TestCase):
                             defined.add(item.targets[0].id)
                     for alias in node.names:
                         self.assertIn(alias.name, defined, path)
+
+    def test_no_two_files_import_from_each_other(self):
+        sources = {}
+        for path, tree in trees().items():
+            imports = [node for node in ast.walk(tree) if isinstance(node, ast.ImportFrom)]
+            sources[path.stem] = {node.module.split('.')[1] for node in imports}
+        while sources:
+            free = [name for name in sources if not sources[name] & set(sources)]
+            self.assertTrue(free, sources)
+            for name in free:
+                del sources[name]
+
+    def test_no_name_has_two_meanings_in_a_file(self):
+        for path, tree in trees().items():
+            top = [node for node in tree.body if hasattr(node, 'name')]
+            taken = {alias.name for node in tree.body if isinstance(node, ast.ImportFrom) for alias in node.names}
+            taken |= {node.name for node in top} | set(dir(builtins))
+            for node in ast.walk(tree):
+                if isinstance(node, ast.arg):
+                    self.assertNotIn(node.arg, taken, path)
+                elif isinstance(node, ast.Name) and isinstance(node.ctx, ast.Store):
+                    self.assertNotIn(node.id, taken, path)
+
+    def test_only_these_builtins_are_used(self):
+        for path, tree in trees().items():
+            for node in ast.walk(tree):
+                if isinstance(node, ast.Name) and node.id in dir(builtins):
+                    self.assertIn(node.id, BUILTINS, path)
 
     def test_interface(self):
         for name, functions in INTERFACE.items():
