@@ -9,11 +9,11 @@ import unittest
 
 BUILTINS = [
     'ValueError', 'all', 'bool', 'enumerate', 'int', 'isinstance', 'len', 'list', 'max', 'min', 'range',
-    'reversed', 'sorted', 'sum', 'zip',
+    'reversed', 'sorted', 'str', 'sum', 'tuple', 'zip',
 ]
 PACKAGE = pathlib.Path(__file__).resolve().parent.parent / 'hardwraps'
 
-# The names and parameters of the interface, for the modules that have landed.
+# The functions of the interface and their parameters.
 INTERFACE = {
     'wrapping': {
         'is_widths': ['value'],
@@ -56,6 +56,46 @@ INTERFACE = {
         'nth_list': ['pieces', 'index'],
         'list_index': ['pieces', 'widths'],
         'shortest_for_lines': ['lines'],
+    },
+    'texts': {
+        'wrap_text': ['widths', 'text'],
+        'widths_between': ['before', 'after'],
+    },
+    'notation': {
+        'format_widths': ['widths'],
+        'format_pieces': ['pieces'],
+        'parse_widths': ['text'],
+        'parse_pieces': ['text'],
+    },
+}
+
+# The classes of the interface, beside the errors, and the parameters of their methods.
+CLASSES = {
+    'documents': {
+        'Document': {
+            '__init__': ['self', 'widths'],
+            'add_line': ['self', 'index', 'length'],
+            'set_length': ['self', 'index', 'length'],
+            'remove_line': ['self', 'index'],
+            'add_width': ['self', 'index', 'width'],
+            'remove_width': ['self', 'index'],
+            'undo': ['self'],
+            'current_widths': ['self'],
+            'line_lengths': ['self'],
+            'rows': ['self'],
+            'locate': ['self', 'row'],
+            'row_of': ['self', 'line', 'position'],
+            'log': ['self'],
+            'clone': ['self'],
+            '__len__': ['self'],
+            '__eq__': ['self', 'other'],
+        },
+    },
+    'console': {
+        'Console': {
+            '__init__': ['self'],
+            'execute': ['self', 'command'],
+        },
     },
 }
 
@@ -134,3 +174,17 @@ class FormTest(unittest.TestCase):
                 found = getattr(module, function)
                 self.assertEqual(found.__module__, module.__name__)
                 self.assertEqual(list(inspect.signature(found).parameters), parameters)
+
+    def test_classes_define_their_methods_themselves(self):
+        for name, classes in CLASSES.items():
+            module = importlib.import_module('hardwraps.' + name)
+            for class_name, methods in classes.items():
+                found = getattr(module, class_name)
+                self.assertEqual(found.__module__, module.__name__)
+                for method, parameters in methods.items():
+                    self.assertIn(method, vars(found))
+                    self.assertEqual(list(inspect.signature(vars(found)[method]).parameters), parameters)
+
+    def test_the_widths_of_a_document_have_a_default(self):
+        documents = importlib.import_module('hardwraps.documents')
+        self.assertEqual(inspect.signature(documents.Document).parameters['widths'].default, ())
